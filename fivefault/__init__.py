@@ -1,0 +1,1 @@
+"""Fivefault: inequalities between terms, decided with certificates."""
