@@ -1,6 +1,7 @@
 """The rules of the language that can be seen in one file: a part of L1 to L28, as a first guard."""
 
 import ast
+import builtins
 import pathlib
 import re
 import unittest
@@ -126,6 +127,163 @@ class Language(unittest.TestCase):
                     self.assertIn(ast.unparse(node.comparators[0]), ("None", "True", "False"))
                 if isinstance(node, ast.Raise) and node.exc is not None:
                     self.assertIsInstance(node.exc, ast.Call)
+
+
+def functions(tree):
+    return [node for node in ast.walk(tree) if isinstance(node, ast.FunctionDef)]
+
+
+def classes(tree):
+    return [node for node in ast.walk(tree) if isinstance(node, ast.ClassDef)]
+
+
+def decorators(node):
+    return [ast.unparse(one) for one in node.decorator_list]
+
+
+def is_generator(node):
+    return any(isinstance(one, (ast.Yield, ast.YieldFrom)) for one in ast.walk(node))
+
+
+def calls_of(tree, *names):
+    return [node for node in ast.walk(tree)
+            if isinstance(node, ast.Call) and isinstance(node.func, ast.Name) and node.func.id in names]
+
+
+class WholePackage(unittest.TestCase):
+    """Rules that hold for all files together."""
+
+    def setUp(self):
+        self.trees = {path.stem: ast.parse(path.read_text()) for path in FILES}
+        self.classes = [node for tree in self.trees.values() for node in classes(tree)]
+        self.methods = [node for one in self.classes for node in functions(one)]
+
+    def kept_names(self):
+        """The names of all attributes that an object is assigned."""
+        return {node.attr for tree in self.trees.values() for node in ast.walk(tree)
+                if isinstance(node, ast.Attribute) and isinstance(node.ctx, ast.Store)}
+
+    def class_values(self):
+        return {target.id for one in self.classes for row in one.body if isinstance(row, ast.Assign)
+                for target in row.targets}
+
+    def test_methods_attributes_and_class_values_have_different_names(self):
+        plain = {node.name for node in self.methods if not decorators(node)}
+        special = {node.name for node in self.methods if decorators(node)}
+        sets = [plain, self.kept_names(), self.class_values()]
+        for at, one in enumerate(sets):
+            for other in sets[at + 1:]:
+                self.assertEqual(one & other, set())
+        bound = {node.name for node in self.methods if set(decorators(node)) & {"staticmethod", "classmethod"}}
+        properties = special - bound
+        self.assertEqual(bound & (plain | self.kept_names() | self.class_values() | properties | set(METHODS)), set())
+        self.assertEqual(properties & (plain | self.class_values() | set(METHODS)), set())
+
+    def test_decorators(self):
+        for node in self.methods:
+            self.assertLessEqual(len(node.decorator_list), 1)
+            for word in decorators(node):
+                self.assertRegex(word, r"^(property|staticmethod|classmethod|[a-z_]+\.setter)$")
+        for tree in self.trees.values():
+            for node in functions(tree):
+                if node not in self.methods and node.name not in [one.name for one in self.methods]:
+                    self.assertEqual(node.decorator_list, [])
+
+    def test_attributes_that_are_read_are_assigned(self):
+        known = self.kept_names() | self.class_values() | {node.name for node in self.methods}
+        for tree in self.trees.values():
+            for node in ast.walk(tree):
+                if isinstance(node, ast.Attribute):
+                    self.assertIn(node.attr, known | set(METHODS) | {"setter"})
+
+    def test_generators(self):
+        nodes = [node for tree in self.trees.values() for node in functions(tree)]
+        names = [node.name for node in nodes if is_generator(node)]
+        self.assertIn("walk", names)
+        for name in names:
+            self.assertEqual([node.name for node in nodes].count(name), 1, name)
+            self.assertNotIn(name, METHODS)
+        for tree in self.trees.values():
+            heads = [node.iter for node in ast.walk(tree) if isinstance(node, (ast.For, ast.comprehension))]
+            heads += [call.args[0] for call in calls_of(tree, "list", "tuple") if call.args]
+            for node in ast.walk(tree):
+                if isinstance(node, ast.Call):
+                    name = node.func.attr if isinstance(node.func, ast.Attribute) else ast.unparse(node.func)
+                    self.assertTrue(name not in names or node in heads, name)
+
+    def test_what_is_iterated_on_the_spot(self):
+        for tree in self.trees.values():
+            heads = [node.iter for node in ast.walk(tree) if isinstance(node, (ast.For, ast.comprehension))]
+            heads += [call.args[0] for call in calls_of(tree, "list", "tuple", "dict", "sorted") if call.args]
+            heads += [node.comparators[0] for node in ast.walk(tree) if isinstance(node, ast.Compare)]
+            for call in calls_of(tree, "range", "zip", "enumerate", "reversed"):
+                self.assertIn(call, heads, ast.unparse(call))
+
+    def test_sets(self):
+        for tree in self.trees.values():
+            places = [call.args[0] for call in calls_of(tree, "sorted", "len")]
+            places += [node.comparators[0] for node in ast.walk(tree) if isinstance(node, ast.Compare)]
+            written = [node for node in ast.walk(tree) if isinstance(node, (ast.Set, ast.SetComp))]
+            for node in written + calls_of(tree, "set"):
+                self.assertIn(node, places, ast.unparse(node))
+            self.assertEqual(calls_of(tree, "frozenset", "iter", "next"), [])
+
+    def test_builtins_take_lists(self):
+        for tree in self.trees.values():
+            for node in ast.walk(tree):
+                self.assertNotIsInstance(node, ast.GeneratorExp)
+                self.assertFalse(isinstance(node, ast.Attribute) and node.attr == "sort")
+
+    def test_names_of_builtins_imports_and_classes_mean_nothing_else(self):
+        for tree in self.trees.values():
+            taken = {node.name for node in classes(tree)}
+            taken |= {alias.name for node in tree.body if isinstance(node, ast.ImportFrom) for alias in node.names}
+            stored = [node.id for node in ast.walk(tree) if isinstance(node, ast.Name) and isinstance(node.ctx, ast.Store)]
+            stored += [node.arg for node in ast.walk(tree) if isinstance(node, ast.arg)]
+            defined = [node.name for node in tree.body if isinstance(node, (ast.FunctionDef, ast.ClassDef))]
+            for name in stored:
+                self.assertNotIn(name, taken)
+            for name in stored + defined:
+                self.assertNotIn(name, dir(builtins))
+
+    def test_imports_form_no_circle(self):
+        wanted = {name: [node.module.split(".")[1] for node in tree.body if isinstance(node, ast.ImportFrom)]
+                  for name, tree in self.trees.items()}
+        done = []
+        while len(done) < len(wanted):
+            ready = [name for name in wanted if name not in done and all(other in done for other in wanted[name])]
+            self.assertTrue(ready, wanted)
+            done += ready
+
+    def test_returns_of_double_underscore_methods(self):
+        for node in self.methods:
+            found = [one.value for one in ast.walk(node) if isinstance(one, ast.Return)]
+            if node.name == "__len__":
+                for value in found:
+                    self.assertRegex(ast.unparse(value), r"^len\(.*\)$")
+            if node.name in ("__str__", "__repr__"):
+                for value in found:
+                    self.assertIsInstance(value, ast.JoinedStr)
+            if node.name in ("__len__", "__str__", "__repr__"):
+                self.assertIsInstance(node.body[-1], ast.Return)
+            if node.name == "__init__":
+                self.assertEqual(found, [])
+            if node.name in ("__and__", "__or__", "__eq__", "__contains__"):
+                self.assertEqual(len(node.args.args), 2)
+
+    def test_no_errors_of_pythons_own_are_caught(self):
+        own = {node.name for node in classes(self.trees["errors"])}
+        for tree in self.trees.values():
+            for node in ast.walk(tree):
+                if isinstance(node, ast.ExceptHandler):
+                    caught = node.type.elts if isinstance(node.type, ast.Tuple) else [node.type]
+                    self.assertLessEqual({ast.unparse(one) for one in caught}, own)
+
+    def test_powers_have_literal_exponents(self):
+        for tree in self.trees.values():
+            for node in ast.walk(tree):
+                if isinstance(node, ast.BinOp) and isinstance(node.op, ast.Pow):
+                    self.assertIsInstance(node.right, ast.Constant)
 
 
 if __name__ == "__main__":
