@@ -4,21 +4,26 @@ import copy
 import time
 import unittest
 
-from fivefault import derivations, rules as rule_lists, tables
-from fivefault.errors import InvalidGoal, InvalidRules, TooManyTerms
+from fivefault import cases, completions, derivations, rules as rule_lists, tables
+from fivefault.errors import InvalidGoal, InvalidRules, TooManyPlaces, TooManyTerms
 from tests import questions
 
 # Functions with a goal that may be left out, and functions that need one, with what they are passed behind it.
-FREE = [(rule_lists.check_rules, []), (rule_lists.vocabulary, []), (tables.under_pairs, [])]
+FREE = [(rule_lists.check_rules, []), (rule_lists.vocabulary, []), (tables.under_pairs, []),
+        (completions.completion, [])]
 ASKED = [(tables.table_of, []), (tables.is_table, ["table"]), (derivations.derive, []),
-         (derivations.is_derivation, ["steps"])]
+         (derivations.is_derivation, ["steps"]), (cases.cases, []), (cases.first_case, []), (cases.case_tree, []),
+         (cases.is_tree, ["tree"])]
 THIRTEEN = [(name, "a", "b") for name in [*questions.names(12), "last"]]
 OTHERS = [None, [], (), "x", 5, True, [None], (("a", "b"),), [("a", "b", ("same",))]]
 
 
 def called(function, *arguments, **more):
     """The result of a call; that of a generator is what it yields."""
-    found = function(*arguments, **more)
+    try:
+        found = function(*arguments, **more)
+    except TooManyPlaces:
+        return "too many places"
     return list(found) if hasattr(found, "__next__") else found
 
 
