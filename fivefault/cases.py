@@ -32,6 +32,11 @@ def breaks_pair(case, left, right):
     return truth_under(left, case) is True and truth_under(right, case) is False
 
 
+def breaks_goal(case, rules, goal):
+    """Return whether a case keeps all rules and breaks the goal."""
+    return breaks_pair(case, *goal) and all([keeps_pair(case, left, right) for name, left, right in rules])
+
+
 def cases(rules, goal):
     """Yield all cases for the letters of the vocabulary that keep all rules and break the goal, in ascending order.
 
@@ -39,10 +44,10 @@ def cases(rules, goal):
     """
     names = letters_among(question_terms(rules, goal))
     # The list of the rules may be changed by the caller between two cases.
-    pairs = [(left, right) for name, left, right in rules]
+    kept = list(rules)
     for number in range(1 << len(names)):
         case = numbered_case(names, number)
-        if all([keeps_pair(case, left, right) for left, right in pairs]) and breaks_pair(case, *goal):
+        if breaks_goal(case, kept, goal):
             yield case
 
 

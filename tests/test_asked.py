@@ -1,11 +1,13 @@
 """[2], [5]: all functions with the parameters rules and goal raise the errors of check_rules first."""
 
 import copy
+import itertools
+import random
 import time
 import unittest
 
-from fivefault import cases, completions, derivations, rules as rule_lists, tables
-from fivefault.errors import InvalidGoal, InvalidRules, TooManyPlaces, TooManyTerms
+from fivefault import answers, cases, completions, cores, derivations, rules as rule_lists, tables
+from fivefault.errors import InvalidCertificate, InvalidGoal, InvalidRules, TooManyPlaces, TooManyTerms
 from tests import questions
 
 # Functions with a goal that may be left out, and functions that need one, with what they are passed behind it.
@@ -13,7 +15,10 @@ FREE = [(rule_lists.check_rules, []), (rule_lists.vocabulary, []), (tables.under
         (completions.completion, [])]
 ASKED = [(tables.table_of, []), (tables.is_table, ["table"]), (derivations.derive, []),
          (derivations.is_derivation, ["steps"]), (cases.cases, []), (cases.first_case, []), (cases.case_tree, []),
-         (cases.is_tree, ["tree"])]
+         (cases.is_tree, ["tree"]), (answers.answer, []), (answers.Always, ["steps"]),
+         (answers.Spreading, ["tree", "table"]), (answers.Never, ["case"]), (cores.core, []),
+         (cores.core_certificate, []), (answers.answer([], ("a", "a")).is_right_for, []),
+         (answers.answer(*questions.PENTAGON).is_right_for, []), (answers.answer([], ("a", "b")).is_right_for, [])]
 THIRTEEN = [(name, "a", "b") for name in [*questions.names(12), "last"]]
 OTHERS = [None, [], (), "x", 5, True, [None], (("a", "b"),), [("a", "b", ("same",))]]
 
@@ -24,6 +29,8 @@ def called(function, *arguments, **more):
         found = function(*arguments, **more)
     except TooManyPlaces:
         return "too many places"
+    except InvalidCertificate:
+        return "no certificate"
     return list(found) if hasattr(found, "__next__") else found
 
 
@@ -82,6 +89,30 @@ class ErrorsFirst(unittest.TestCase):
             for rules, goal in questions.all_questions()[::40]:
                 first = called(function, rules, goal, *[[] for _ in more])
                 self.assertEqual(called(function, goal=goal, rules=rules, **{word: [] for word in more}), first)
+
+    def test_two_faults_the_same_first_error_from_all(self):
+        """Rule lists and goals with one or two faults, put together in all ways."""
+        source = random.Random(51)
+        rule_faults = [[], [("one", "a", "b"), None], [("one", "a", "b")] * 2, [None, ("x", "a")], THIRTEEN,
+                       [*THIRTEEN[:11], ("bad", "a", "i")], questions.rules_with(25), questions.rules_with(24)]
+        goals = [None, ("a", "b"), ("a", "i"), ["a", "b"], 5, ("a",), (("&", "a", "c"), ("&", "a", "d"))]
+        rule_faults += [[*rules, source.choice(questions.WRONG_RULES)] for rules in rule_faults]
+        for rules, goal in itertools.product(rule_faults, goals):
+            expected = self.first_error(rule_lists.check_rules, [], rules, goal)
+            for function, more in FREE + ASKED:
+                found = self.first_error(function, more, rules, goal)
+                if goal is None and expected[0] != "InvalidRules" and (function, more) in ASKED:
+                    self.assertEqual(found, ("InvalidGoal", {"code": "InvalidGoal"}))
+                else:
+                    self.assertEqual(found, expected, (function, rules, goal))
+
+    def first_error(self, function, more, rules, goal):
+        """The code and the fields of the error of a call, if it is one of check_rules."""
+        try:
+            called(function, rules, goal, *[None for _ in more])
+        except (InvalidRules, InvalidGoal, TooManyTerms) as error:
+            return error.code, vars(error)
+        return "none", {}
 
     def test_quick_at_the_largest_questions(self):
         asked = [questions.full_question()] + questions.random_questions(6, seed=50, many=24, rules=12)

@@ -10,61 +10,10 @@ from fivefault.boards import Board
 from fivefault.cases import case_tree, cases, first_case, is_tree, truth
 from fivefault.errors import InvalidGoal, InvalidRules, InvalidTerm, TooManyTerms
 from tests import orders, questions, samples
+from tests.verdicts import is_plain_tree, plain_breaks, plain_cases, plain_truth, question_letters
 
 AB = ("&", "a", "b")
 A_OR_B = ("|", "a", "b")
-
-
-def plain_truth(term, case):
-    """[12], sentence by sentence."""
-    if isinstance(term, str):
-        return case[term] if term in case else None
-    parts = [plain_truth(part, case) for part in term[1:]]
-    if term[0] == "&":
-        if any(part is False for part in parts):
-            return False
-        return True if all(part is True for part in parts) else None
-    if any(part is True for part in parts):
-        return True
-    return False if all(part is False for part in parts) else None
-
-
-def plain_keeps(case, left, right):
-    return plain_truth(left, case) is False or plain_truth(right, case) is True
-
-
-def plain_breaks(case, left, right):
-    return plain_truth(left, case) is True and plain_truth(right, case) is False
-
-
-def question_letters(rules, goal):
-    return [term for term in questions.plain_vocabulary(rules, goal) if isinstance(term, str)]
-
-
-def plain_cases(rules, goal):
-    """All cases, by going through all of them."""
-    found = []
-    letters = question_letters(rules, goal)
-    for values in itertools.product([False, True], repeat=len(letters)):
-        case = dict(zip(letters, values))
-        if all(plain_keeps(case, *rule[1:]) for rule in rules) and plain_breaks(case, *goal):
-            found.append(case)
-    return found
-
-
-def is_plain_tree(rules, goal, tree, case=None):
-    """[13], sentence by sentence."""
-    case = case or {}
-    if type(tree) is not tuple or len(tree) == 0 or type(tree[0]) is not str:
-        return False
-    if len(tree) == 2 and tree[0] == "rule":
-        return any(type(tree[1]) is str and rule[0] == tree[1] and plain_breaks(case, *rule[1:]) for rule in rules)
-    if len(tree) == 1 and tree[0] == "goal":
-        return plain_keeps(case, *goal)
-    if len(tree) == 3 and tree[0] in samples.LETTERS and tree[0] not in case:
-        return is_plain_tree(rules, goal, tree[1], {**case, tree[0]: False}) \
-            and is_plain_tree(rules, goal, tree[2], {**case, tree[0]: True})
-    return False
 
 
 def with_trees():
