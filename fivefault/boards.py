@@ -41,18 +41,18 @@ class Board:
         if not are_square(rows, Board.MAX_PLACES):
             raise InvalidBoard()
         self.lines = list(rows)
-        above = masks_of(self.lines)
-        below = masks_of(columns_of(self.lines))
+        self.above = masks_of(self.lines)
+        self.below = masks_of(columns_of(self.lines))
         # Nothing but the place itself is both above and below it.
-        if not all([above[at] & below[at] == 1 << at for at in range(len(above))]):
+        if not all([self.above[at] & self.below[at] == 1 << at for at in range(len(self.lines))]):
             raise InvalidBoard()
-        self.lows = bound_table(below)
-        self.highs = bound_table(above)
+        self.lows = bound_table(self.below)
+        self.highs = bound_table(self.above)
         # Where x is below y, their low can only be x, so with all lows it is an order: all below x is below y.
         if any([None in row for row in [*self.lows, *self.highs]]):
             raise InvalidBoard()
-        self.least = above.index(max(above))
-        self.greatest = below.index(max(below))
+        self.least = self.above.index(max(self.above))
+        self.greatest = self.below.index(max(self.below))
 
     @classmethod
     def chain(cls, size):
@@ -151,12 +151,14 @@ class Board:
 
     def spreads(self):
         """Return whether low(x, up(y, z)) = up(low(x, y), low(x, z)) for all places."""
-        for low in self.lows:
-            for y in range(len(low)):
-                # Both sides are the same for y and z exchanged, and equal for y = z.
-                for z in range(y):
-                    if low[self.highs[y][z]] != self.highs[low[y]][low[z]]:
-                        return False
+        # Each place is the up of the places below it that are no ups of others: those with a greatest place right below
+        # them. The board spreads if and only if none of these is below an up without being below one of its two places,
+        # so if the places that are not above it have a greatest one.
+        masks = {mask: True for mask in self.below}
+        whole = self.below[self.greatest]
+        for at in range(len(self.below)):
+            if (self.below[at] ^ 1 << at) in masks and (whole ^ self.above[at]) not in masks:
+                return False
         return True
 
     def turned(self):

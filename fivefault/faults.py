@@ -3,34 +3,70 @@
 
 def find_fault(board):
     """Return a fault of a board, or None if it spreads; a fan only if there is no ladder."""
-    bounds = bound_pairs(board)
-    ladder = find_ladder(board.rows(), bounds)
-    return find_fan(bounds) if ladder is None else ladder
+    if board.spreads():
+        return None
+    uppers = covers_of(board.above, board.below)
+    found = find_ladder(uppers, board.above, board.below, board.highs)
+    if found is not None:
+        return ("ladder", found)
+    # The same for the turned board, in which a ladder stands upside down.
+    found = find_ladder(covers_of(board.below, board.above), board.below, board.above, board.lows)
+    if found is not None:
+        i, y, x, z, o = found
+        return ("ladder", (o, x, y, z, i))
+    return ("fan", find_fan(uppers, board.below, board.highs))
 
 
-def bound_pairs(board):
-    """Return a list of lists with the pair (low, up) of each two places."""
-    many = len(board)
-    return [[(board.low(one, other), board.up(one, other)) for other in range(many)] for one in range(many)]
+def covers_of(above, below):
+    """Return a mask for each place: its binary digits say which places stand right above it, with nothing between."""
+    bits = [1 << at for at in range(len(above))]
+    covers = []
+    for at, mask in enumerate(above):
+        higher = mask ^ bits[at]
+        covers.append(sum([bit for bit, under in zip(bits, below) if higher & under == bit]))
+    return covers
 
 
-def find_ladder(rows, bounds):
-    """Return a ladder, or None. Five places that are bound in this way are different if x and y are."""
-    for z, row in enumerate(bounds):
-        for x in range(len(row)):
-            for y in range(len(row)):
-                if rows[x][y] == "1" and row[x] == row[y] and x != y:
-                    return ("ladder", (row[x][0], x, y, z, row[x][1]))
+def places_in(mask):
+    """Return the list of the places in a mask."""
+    return [at for at in range(mask.bit_length()) if mask >> at & 1]
+
+
+def lowest_in(mask):
+    """Return the first place in a mask that is not empty."""
+    return (mask & -mask).bit_length() - 1
+
+
+def find_ladder(covers, above, below, highs):
+    """Return the places (o, x, y, z, i) of a ladder with x and z right above o, or None if there is none.
+
+    Two places right above o have the low o. If i is their up and y stands between x and i, the low of y and z can only
+    be o, and their up only i. If nothing ever stands between, on the board and on the turned board, there is no ladder.
+    """
+    for o, mask in enumerate(covers):
+        sides = places_in(mask)
+        for x in sides:
+            for z in sides:
+                i = highs[x][z]
+                if not covers[x] >> i & 1 and x != z:
+                    return (o, x, lowest_in(above[x] & below[i] ^ (1 << x | 1 << i)), z, i)
     return None
 
 
-def find_fan(bounds):
-    """Return a fan, or None. Five places that are bound in this way are different if x, y and z are."""
-    for x, row in enumerate(bounds):
-        for y in range(x):
-            for z in range(y):
-                if row[y] == row[z] and row[y] == bounds[y][z]:
-                    return ("fan", (row[y][0], x, y, z, row[y][1]))
+def find_fan(covers, below, highs):
+    """Return the places (o, x, y, z, i) of a fan with x, y and z right above o, or None if there is none.
+
+    A board without ladders that does not spread has such a fan. On it, each third place z right above o that is below
+    the up of x and y has the same up with both.
+    """
+    for o, mask in enumerate(covers):
+        sides = places_in(mask)
+        for x in sides:
+            for y in sides:
+                i = highs[x][y]
+                rest = mask & below[i] ^ (1 << x | 1 << y)
+                if rest > 0 and x != y:
+                    return (o, x, y, lowest_in(rest), i)
     return None
 
 

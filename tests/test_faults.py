@@ -23,6 +23,38 @@ def large_rows():
     return found + [orders.mixed_rows(rows, source) for rows in found]
 
 
+def hundred_calls(call):
+    """The seconds that a hundred calls take: the least of three times, as other programs run beside the tests."""
+    times = []
+    for _ in range(3):
+        before = time.perf_counter()
+        for _ in range(100):
+            call()
+        times.append(time.perf_counter() - before)
+    return min(times)
+
+
+def space_rows():
+    """The rows of the subspaces of a space with eight points: a board with fans, without ladders."""
+    spaces = set()
+    for many in range(4):
+        for points in itertools.combinations(range(1, 8), many):
+            space = {0}
+            for point in points:
+                space |= {point ^ other for other in space}
+            spaces.add(frozenset(space))
+    return orders.rows_of(sorted(spaces, key=sorted), lambda one, other: one <= other)
+
+
+SUBSPACES = space_rows()
+# The ways to part four things: two places right above one have an up right above both, but not the other way round.
+SEMIMODULAR = orders.rows_of([(0, 1, 2, 3), (0, 0, 2, 3), (0, 1, 0, 3), (0, 1, 2, 0), (0, 1, 1, 3), (0, 1, 2, 1),
+                              (0, 1, 2, 2), (0, 0, 0, 3), (0, 0, 2, 0), (0, 1, 0, 0), (0, 1, 1, 1), (0, 0, 2, 2),
+                              (0, 1, 0, 1), (0, 1, 1, 0), (0, 0, 0, 0)],
+                             lambda one, other: all(other[x] == other[y] for x in range(4) for y in range(x)
+                                                    if one[x] == one[y]))
+
+
 class FindFault(unittest.TestCase):
     def test_a_fault_exactly_if_the_board_does_not_spread(self):
         kinds = set()
@@ -63,6 +95,45 @@ class FindFault(unittest.TestCase):
             self.assertIs(found is None, board.spreads())
             if found is not None:
                 self.assertTrue(tables.is_fault(found))
+
+    def test_many_small_boards(self):
+        """Boards with up to 16 places, and the same turned: what they are is found by going through all places."""
+        source = random.Random(115)
+        counts = {"none": 0, "ladder": 0, "fan": 0}
+        rows = [orders.family_rows(source, source.randint(2, 6), source.randint(2, 6)) for _ in range(260)]
+        rows += [orders.product_rows(orders.fan_rows(source.randint(2, 4)), orders.chain_rows(2)) for _ in range(10)]
+        rows += [orders.product_rows(orders.FAN, orders.fan_rows(2)), orders.fan_rows(5), SUBSPACES, SEMIMODULAR]
+        for row in rows:
+            if len(row) > 16:
+                continue
+            for turned in (row, ["".join(other[at] for other in row) for at in range(len(row))]):
+                mixed = orders.mixed_rows(turned, source)
+                tables, board = orders.Tables(mixed), Board(mixed)
+                kinds = tables.kinds()
+                self.assertIs(board.spreads(), tables.spreads())
+                self.assertIs(board.spreads(), not kinds)
+                found = find_fault(board)
+                if kinds:
+                    self.assertEqual(found[0], "ladder" if "ladder" in kinds else "fan")
+                    self.assertTrue(tables.is_fault(found))
+                else:
+                    self.assertIsNone(found)
+                counts[found[0] if found else "none"] += 1
+        self.assertTrue(min(counts.values()) > 20, counts)
+
+    def test_the_four_boards_and_how_long_they_take(self):
+        chain, fan = Board.chain(60), Board.fan(58)
+        product = Board.fan(3).product(Board.chain(12))
+        self.assertIsNone(find_fault(chain))
+        self.assertIs(chain.spreads(), True)
+        for board in (product, fan):
+            self.assertIs(board.spreads(), False)
+            found = find_fault(board)
+            self.assertEqual(found[0], "fan")
+            self.assertTrue(orders.Tables(board.rows()).is_fault(found))
+        for call, most in [(lambda: find_fault(chain), 0.5), (lambda: find_fault(product), 0.8),
+                           (lambda: find_fault(fan), 0.8), (lambda: chain.spreads(), 0.4)]:
+            self.assertLess(hundred_calls(call), most)
 
     def test_a_fan_only_if_there_is_no_ladder(self):
         both = orders.product_rows(orders.FAN, orders.LADDER)
