@@ -151,9 +151,9 @@ class Board:
 
     def spreads(self):
         """Return whether low(x, up(y, z)) = up(low(x, y), low(x, z)) for all places."""
-        # Each place is the up of the places below it that are no ups of others: those with a greatest place right below
-        # them. The board spreads if and only if none of these is below an up without being below one of its two places,
-        # so if the places that are not above it have a greatest one.
+        # A place is simple if the other places below it have a greatest one; each place is the up of the simple ones
+        # below it. So the board spreads if and only if a simple place is below up(y, z) only where it is below y or z:
+        # if the places that are not above it have a greatest one, too.
         masks = {mask: True for mask in self.below}
         whole = self.below[self.greatest]
         for at in range(len(self.below)):

@@ -1,11 +1,13 @@
 """What can be derived from rules within a vocabulary."""
 
+from fivefault.masks import indexes_in, mask_of
+
 
 class Closure:
     """All pairs of terms of a vocabulary that can be derived from rules, each one with a reason.
 
     A pair is a pair of indexes of the vocabulary. Each one is noted once, behind the pairs that its reason names by
-    their numbers.
+    their numbers. Masks say which terms are known to be above and below each term.
     """
 
     def __init__(self, rules, terms):
@@ -15,15 +17,19 @@ class Closure:
         self.pairs = []
         self.reasons = []
         self.numbers = {}
+        self.overs = [0 for term in self.terms]
+        self.unders = [0 for term in self.terms]
         self.note_at_once(rules)
         self.note_the_rest()
 
     def note(self, one, other, reason):
         """Note a pair with its reason, if it is new."""
-        if (one, other) not in self.numbers:
+        if not self.overs[one] >> other & 1:
             self.numbers[(one, other)] = len(self.pairs)
             self.pairs.append((one, other))
             self.reasons.append(reason)
+            self.overs[one] = self.overs[one] | 1 << other
+            self.unders[other] = self.unders[other] | 1 << one
 
     def note_at_once(self, rules):
         """Note the pairs that follow from no others."""
@@ -47,28 +53,24 @@ class Closure:
         while at < len(self.pairs):
             one, other = self.pairs[at]
             self.note_chains(at)
-            for whole in lowers[other]:
-                self.note_together(one, whole, "into", [(one, part) for part in self.parts_of(whole)])
-            for whole in uppers[one]:
-                self.note_together(whole, other, "out", [(part, other) for part in self.parts_of(whole)])
+            for whole, parts in lowers[other]:
+                # All parts are there, and the whole is not there yet.
+                if self.overs[one] & (parts | 1 << whole) == parts:
+                    numbers = [self.numbers[(one, part)] for part in self.parts_of(whole)]
+                    self.note(one, whole, ("into", tuple(numbers)))
+            for whole, parts in uppers[one]:
+                if self.unders[other] & (parts | 1 << whole) == parts:
+                    numbers = [self.numbers[(part, other)] for part in self.parts_of(whole)]
+                    self.note(whole, other, ("out", tuple(numbers)))
             at = at + 1
 
     def note_chains(self, number):
         """Note all pairs that a pair gives with another one before or behind it."""
         one, other = self.pairs[number]
-        for third in range(len(self.terms)):
-            behind = self.numbers.get((other, third))
-            if behind is not None:
-                self.note(one, third, ("chain", number, behind))
-            before = self.numbers.get((third, one))
-            if before is not None:
-                self.note(third, other, ("chain", before, number))
-
-    def note_together(self, one, other, word, needed):
-        """Note a pair that follows from several others, if these are all known."""
-        numbers = [self.numbers.get(pair) for pair in needed]
-        if None not in numbers:
-            self.note(one, other, (word, tuple(numbers)))
+        for third in indexes_in(self.overs[other] & ~self.overs[one]):
+            self.note(one, third, ("chain", number, self.numbers[(other, third)]))
+        for third in indexes_in(self.unders[one] & ~self.unders[other]):
+            self.note(third, other, ("chain", self.numbers[(third, one)], number))
 
     def parts_of(self, whole):
         """Return the list of the indexes of the parts of a term that is not a letter."""
@@ -80,10 +82,11 @@ class Closure:
         return [(whole, part) for whole in wholes for part in self.parts_of(whole)]
 
     def wholes_with(self, sign):
-        """Return a list with the indexes of the terms with an operator for each part."""
+        """Return a list for each part: the terms with an operator, each one with the mask of all its parts."""
         found = [[] for term in self.terms]
         for whole, part in self.parts_with(sign):
-            found[part].append(whole)
+            # A part may stand there twice, and a mask is made of different indexes.
+            found[part].append((whole, mask_of(sorted(set(self.parts_of(whole))))))
         return found
 
     def number_of(self, goal):

@@ -3,6 +3,7 @@
 from fivefault.boards import Board
 from fivefault.closure import Closure
 from fivefault.errors import TooManyPlaces
+from fivefault.masks import indexes_in, mask_of
 from fivefault.rules import vocabulary
 from fivefault.syntax import term_text
 from fivefault.terms import is_letter
@@ -14,22 +15,14 @@ def completion(rules, goal=None):
     Raises the errors of check_rules, then TooManyPlaces.
     """
     terms = vocabulary(rules, goal)
-    masks = under_masks(rules, terms)
-    members = [[at for at in range(len(terms)) if mask >> at & 1] for mask in all_meets(masks)]
+    masks = Closure(rules, terms).unders
+    members = [indexes_in(mask) for mask in all_meets(masks)]
     # The vocabulary ascends by texts, so lists of indexes are in the order of the lists of the texts.
     members = sorted(members, key=lambda row: (len(row), row))
     meets = [mask_of(row) for row in members]
     board = Board(["".join(["1" if one & other == one else "0" for other in meets]) for one in meets])
     reading = {term: meets.index(masks[at]) for at, term in enumerate(terms) if is_letter(term)}
     return (board, reading, [[term_text(terms[at]) for at in row] for row in members])
-
-
-def under_masks(rules, terms):
-    """Return a number for each term of a vocabulary: its binary digits say which terms are under it."""
-    masks = [0 for term in terms]
-    for one, other in Closure(rules, terms).pairs:
-        masks[other] = masks[other] | 1 << one
-    return masks
 
 
 def all_meets(masks):
@@ -44,8 +37,3 @@ def all_meets(masks):
             raise TooManyPlaces(Board.MAX_PLACES)
         meets = list(known)
     return meets
-
-
-def mask_of(indexes):
-    """Return the number that has the binary digit 1 at these different indexes."""
-    return sum([1 << at for at in indexes])

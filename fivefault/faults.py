@@ -1,5 +1,7 @@
 """Faults: the five places by which a board does not spread."""
 
+from fivefault.masks import first_in, indexes_in
+
 
 def find_fault(board):
     """Return a fault of a board, or None if it spreads; a fan only if there is no ladder."""
@@ -27,16 +29,6 @@ def covers_of(above, below):
     return covers
 
 
-def places_in(mask):
-    """Return the list of the places in a mask."""
-    return [at for at in range(mask.bit_length()) if mask >> at & 1]
-
-
-def lowest_in(mask):
-    """Return the first place in a mask that is not empty."""
-    return (mask & -mask).bit_length() - 1
-
-
 def find_ladder(covers, above, below, highs):
     """Return the places (o, x, y, z, i) of a ladder with x and z right above o, or None if there is none.
 
@@ -44,12 +36,12 @@ def find_ladder(covers, above, below, highs):
     be o, and their up only i. If nothing ever stands between, on the board and on the turned board, there is no ladder.
     """
     for o, mask in enumerate(covers):
-        sides = places_in(mask)
+        sides = indexes_in(mask)
         for x in sides:
             for z in sides:
                 i = highs[x][z]
                 if not covers[x] >> i & 1 and x != z:
-                    return (o, x, lowest_in(above[x] & below[i] ^ (1 << x | 1 << i)), z, i)
+                    return (o, x, first_in(above[x] & below[i] ^ (1 << x | 1 << i)), z, i)
     return None
 
 
@@ -60,13 +52,13 @@ def find_fan(covers, below, highs):
     the up of x and y has the same up with both.
     """
     for o, mask in enumerate(covers):
-        sides = places_in(mask)
+        sides = indexes_in(mask)
         for x in sides:
             for y in sides:
                 i = highs[x][y]
                 rest = mask & below[i] ^ (1 << x | 1 << y)
                 if rest > 0 and x != y:
-                    return (o, x, y, lowest_in(rest), i)
+                    return (o, x, y, first_in(rest), i)
     return None
 
 
