@@ -51,9 +51,9 @@ class Middle:
             elif word == "into":
                 self.found[pair] = self.of_lower(left, right)
             elif word == "down":
-                self.found[pair] = self.of_left_part(left, *pairs)
+                self.found[pair] = self.of_left_part(left, pairs[0])
             elif word == "up":
-                self.found[pair] = self.of_right_part(right, *pairs)
+                self.found[pair] = self.of_right_part(right, pairs[0])
             else:
                 self.found[pair] = self.of_ends(left, right, word)
         return self.found[pair]

@@ -32,7 +32,7 @@ def add_steps(order, left, right, steps, numbers):
     """
     if (left, right) not in numbers:
         word, pairs = order.way_of(left, right)
-        indexes = [add_steps(order, *pair, steps, numbers) for pair in pairs]
+        indexes = [add_steps(order, one, other, steps, numbers) for one, other in pairs]
         if word == "down":
             steps.append((left, pairs[0][0], ("part",)))
             reason = ("chain", len(steps) - 1, *indexes)

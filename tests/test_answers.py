@@ -490,6 +490,8 @@ class Interface(unittest.TestCase):
                 self.assertIn(name, vars(made_by))
             for name in MEMBERS[:5]:
                 self.assertIs(type(vars(made_by)[name]), property)
+        for name in MEMBERS:
+            self.assertIn(name, vars(Answer))
         self.assertEqual([Answer.__module__, answer.__module__], [module.__name__] * 2)
         for found in (answer([], ("a", "a")), answer(*questions.PENTAGON), answer([], ("a", "b"))):
             self.assertIsInstance(found, Answer)

@@ -279,6 +279,73 @@ class WholePackage(unittest.TestCase):
                     caught = node.type.elts if isinstance(node.type, ast.Tuple) else [node.type]
                     self.assertLessEqual({ast.unparse(one) for one in caught}, own)
 
+    def test_no_method_is_read_off_a_class(self):
+        """L5: else no error could have an attribute with the name of a property, as `limit` is one."""
+        plain = {node.name for node in self.methods if not decorators(node)}
+        for tree in self.trees.values():
+            for node in ast.walk(tree):
+                if isinstance(node, ast.Attribute) and isinstance(node.value, ast.Name):
+                    of_class = node.value.id in {one.name for one in self.classes}
+                    self.assertFalse(of_class and node.attr in plain, ast.unparse(node))
+
+    def test_super_calls_a_method(self):
+        for tree in self.trees.values():
+            called = [node.func.value for node in ast.walk(tree)
+                      if isinstance(node, ast.Call) and isinstance(node.func, ast.Attribute)]
+            for call in calls_of(tree, "super"):
+                self.assertEqual([call.args, call.keywords], [[], []])
+                self.assertIn(call, called)
+
+    def test_properties_with_a_setter_have_it_in_each_class(self):
+        for one in self.classes:
+            names = [node.name for node in one.body if isinstance(node, ast.FunctionDef)
+                     and not any(word.endswith(".setter") for word in decorators(node))]
+            self.assertEqual(len(names), len(set(names)), one.name)
+        setters = {node.name for node in self.methods if any(word.endswith(".setter") for word in decorators(node))}
+        for name in setters:
+            owners = [one.name for one in self.classes for node in one.body
+                      if isinstance(node, ast.FunctionDef) and node.name == name and decorators(node) == ["property"]]
+            self.assertEqual(len(owners), 1)
+
+    def test_keywords_of_builtins(self):
+        allowed = {"sorted": {"key", "reverse"}, "min": {"key", "default"}, "max": {"key", "default"},
+                   "sum": {"start"}, "enumerate": {"start"}, "zip": {"strict"}}
+        for tree in self.trees.values():
+            for call in calls_of(tree, *BUILTINS):
+                self.assertLessEqual({word.arg for word in call.keywords}, allowed.get(call.func.id, set()))
+
+    def test_what_stands_behind_a_star(self):
+        simple = (ast.Name, ast.Attribute, ast.Constant, ast.List, ast.Tuple)
+        for tree in self.trees.values():
+            for node in ast.walk(tree):
+                if isinstance(node, ast.Call):
+                    starred = [one.value for one in node.args if isinstance(one, ast.Starred)]
+                    starred += [one.value for one in node.keywords if one.arg is None]
+                    for value in starred:
+                        self.assertIsInstance(value, simple, ast.unparse(node))
+
+    def test_formats(self):
+        for tree in self.trees.values():
+            for node in ast.walk(tree):
+                if isinstance(node, ast.FormattedValue) and node.format_spec is not None:
+                    form = ast.unparse(node.format_spec).strip("f'\"")
+                    self.assertRegex(form, r"^(.?[<>=^])?[+ -]?#?0?[0-9]{0,2}[,_]?(\.[0-9]{1,2})?[dsxXob]?$")
+
+    def test_handlers_name_their_error_once(self):
+        for tree in self.trees.values():
+            for function in functions(tree):
+                names = [node.name for node in ast.walk(function) if isinstance(node, ast.ExceptHandler) and node.name]
+                stored = [node.id for node in ast.walk(function)
+                          if isinstance(node, ast.Name) and isinstance(node.ctx, ast.Store)]
+                self.assertEqual(len(names), len(set(names)))
+                self.assertEqual(set(names) & set(stored), set())
+
+    def test_strings_at_module_level_and_escapes(self):
+        for tree in self.trees.values():
+            for node in ast.walk(tree):
+                if isinstance(node, ast.Constant) and isinstance(node.value, str):
+                    self.assertNotRegex(node.value, r"\._{1,2}$|^__.*__$")
+
     def test_powers_have_literal_exponents(self):
         for tree in self.trees.values():
             for node in ast.walk(tree):
